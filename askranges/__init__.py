@@ -1,0 +1,1 @@
+"""Sort values that are known only within ranges, by asking at a price."""
