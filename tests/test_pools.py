@@ -7,19 +7,13 @@ from random import Random
 from askranges.errors import DuplicateName, InvalidPool, InvalidValue, InvalidValues, UnknownName
 from askranges.itemtypes import Item
 from askranges.pools import Pool
-from tests.things import NAMES, NOT_INTEGERS, NOT_NAMES, Unchanged, forty_items, parts, same, small_items
+from tests.things import NAMES, NOT_INTEGERS, NOT_NAMES, Unchanged, content, forty_items, parts, same, small_items
 
 A = Item("a", 0, 5, price=3)
 B = Item("b", 2, 9)
 C = Item.exact("c", 10)
 D = Item("d", -4, 0, price=999)
 NOT_ITEMS = NOT_NAMES + NAMES + [("a", 0, 5, 1), Pool(), Pool(A), [A], (A, B), {"a": A}]
-
-
-def content(pool):
-    """All that a pool tells of itself."""
-    return (pool.names, len(pool), [parts(pool.item(name)) for name in pool.names],
-            [parts(item) for item in pool.walk()], list(pool.loose_pairs()), pool.text)
 
 
 def expected(items):

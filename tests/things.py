@@ -1,8 +1,10 @@
 """What several tests need: objects of every kind, and all small items."""
 
 from copy import deepcopy
+from random import Random
 
 from askranges.itemtypes import Item
+from askranges.pools import Pool
 
 
 def nested(depth):
@@ -37,6 +39,12 @@ def parts(item):
     return (item.name, item.least, item.greatest, item.price, item.is_exact, item.value)
 
 
+def content(pool):
+    """All that a pool tells of itself."""
+    return (pool.names, len(pool), [parts(pool.item(name)) for name in pool.names],
+            [parts(item) for item in pool.walk()], list(pool.loose_pairs()), pool.text)
+
+
 def small_items(name, most=4, price=1):
     """All items with this name and price whose values are from 0 to most."""
     return [Item(name, least, greatest, price=price)
@@ -54,17 +62,54 @@ def forty_items():
     return items
 
 
+def row_items(count, prices):
+    """Items of which each overlaps its neighbours only; the fifth of its ten own values is in no other range."""
+    names = ["abcdefgh"[at * 3 % 8] * (at // 8 + 1) for at in range(count)]
+    return [Item(name, 10 * at, 10 * at + 14, price=price) for at, (name, price) in enumerate(zip(names, prices))]
+
+
+def draw_items(random, count, most=8, widest=5):
+    """Some items with different names, in any order, whose ranges often overlap, touch and are equal."""
+    items = []
+    for name in random.sample(["a", "aa", "ab", "b", "ba", "c", "order", "pool", "values", "z", "zzzzzzzz"], count):
+        least = random.randint(-most // 2, most // 2)
+        items.append(Item(name, least, least + random.randint(0, widest), price=random.randint(1, 9)))
+    return items
+
+
+def drawn_pools(seed, count, most_items, **more):
+    """So many drawn pools, each beside what draws further."""
+    random = Random(seed)
+    for _ in range(count):
+        yield random, Pool(*draw_items(random, random.randint(0, most_items), **more))
+
+
+def draw_values(random, pool):
+    """Values for a pool, in any order of the names, often at the ends of the ranges."""
+    values = {}
+    for name in random.sample(pool.names, len(pool)):
+        item = pool.item(name)
+        if not item.is_exact:
+            values[name] = random.choice([item.least, item.greatest, random.randint(item.least, item.greatest)])
+    return values
+
+
+def snapshot(thing):
+    """What Unchanged compares: a copy, or all that a pool tells of itself."""
+    return content(thing) if isinstance(thing, Pool) else deepcopy(thing)
+
+
 class Unchanged:
     """Within this block, an object stays as it was."""
 
     def __init__(self, test, *things):
         self.test = test
         self.things = things
-        self.before = deepcopy(things)
+        self.before = [snapshot(thing) for thing in things]
 
     def __enter__(self):
         return self
 
     def __exit__(self, kind, value, trace):
         if kind is None:
-            self.test.assertTrue(same(self.things, self.before))
+            self.test.assertTrue(same([snapshot(thing) for thing in self.things], self.before))
