@@ -22,3 +22,10 @@ def rank_pairs(pool):
     """Yield the pairs of each name and its ranks, in ascending order of the names."""
     for name in pool.names:
         yield (name, ranks(pool, name))
+
+
+def is_settled_below(item, other):
+    """Return True if two items are settled and the value of the first one is not greater."""
+    if item.is_exact and other.is_exact:
+        return item.value <= other.value
+    return item.is_surely_before(other)

@@ -108,3 +108,131 @@ def possible_orders(ranges):
     """All possible orders, by [11]."""
     drawn = list(all_values(ranges, list(ranges)))
     return [order for order in permutations(ranges) if any(never_descends(values, order) for values in drawn)]
+
+
+def is_settled_below(ranges, low, high):
+    """[17], [19]: surely before the other one, or exact like it and not greater."""
+    exact = ranges[low][0] == ranges[low][1] and ranges[high][0] == ranges[high][1]
+    return is_before(ranges, low, high) or exact and ranges[low][0] <= ranges[high][0]
+
+
+def least_price_after(ranges, prices, values, is_reached):
+    """The least price of a set of open items after which the pool is as it should be, over all sets."""
+    return min(sum(prices[name] for name in asked) for asked in subsets(open_of(ranges))
+               if is_reached(after(ranges, values, asked)))
+
+
+def sure_least_of(ranges):
+    """The smallest name of a sure least item, by [17], or None."""
+    return min([name for name in ranges
+                if all(is_settled_below(ranges, name, other) for other in ranges if other != name)], default=None)
+
+
+def has_least(ranges):
+    """True if it is known which item is the least one; no item is needed for an empty pool."""
+    return not ranges or sure_least_of(ranges) is not None
+
+
+def candidates_of(ranges, prices, values):
+    """All candidates, by the words of [18]."""
+    truth = truth_of(ranges, values)
+    is_open = open_of(ranges)
+    found = []
+    for name in ranges:
+        others = [other for other in ranges if other != name]
+        if not any(truth[other] < truth[name] for other in others):
+            asked = [other for other in others if other in is_open and ranges[other][0] <= truth[name]]
+            asked += [name] if name in is_open else []
+            found.append((sum(prices[each] for each in asked), name, sorted(asked)))
+        if name in is_open and not any(truth[other] <= ranges[name][1] for other in others):
+            asked = [other for other in others if other in is_open and ranges[other][0] <= ranges[name][1]]
+            found.append((sum(prices[each] for each in asked), name, sorted(asked)))
+    return sorted(found)
+
+
+def high_of(ranges, lows):
+    return [name for name in ranges if name not in lows]
+
+
+def does_fit(ranges, values, lows):
+    truth = truth_of(ranges, values)
+    return not any(truth[low] > truth[high] for low in lows for high in high_of(ranges, lows))
+
+
+def knows_split(ranges, lows):
+    return all(is_settled_below(ranges, low, high) for low in lows for high in high_of(ranges, lows))
+
+
+def needed_for_split(ranges, values, lows):
+    """The items that are needed for a split, by [19]."""
+    truth = truth_of(ranges, values)
+    highs = high_of(ranges, lows)
+    return [name for name in open_of(ranges)
+            if (name in lows and any(truth[high] <= ranges[name][1] for high in highs))
+            or (name in highs and any(truth[low] >= ranges[name][0] for low in lows))]
+
+
+def split_pairs(ranges, values, lows):
+    """The pairs of which one must be asked, by [19]."""
+    free = [name for name in open_of(ranges) if name not in needed_for_split(ranges, values, lows)]
+    return [(low, high) for low in lows for high in high_of(ranges, lows)
+            if low in free and high in free and not is_before(ranges, low, high)]
+
+
+def order_choice(ranges):
+    """What an order session asks, by [22]: nothing, the name of a forced ask, or a pair of names."""
+    loose = loose_of(ranges)
+    if not loose:
+        return []
+    exact = [name for name in ranges if name not in open_of(ranges)]
+    around = [name for name in open_of(ranges) if any(ranges[other][0] in possible(ranges, name) for other in exact)]
+    return [min(around)] if around else list(loose[0])
+
+
+def least_choice(ranges):
+    """What a least session asks, by [22]."""
+    if has_least(ranges):
+        return []
+    first, second, *_ = sorted(ranges, key=lambda name: (*ranges[name], name))
+    is_open = open_of(ranges)
+    if first not in is_open:
+        return [min(name for name in is_open if ranges[first][0] in possible(ranges, name))]
+    return sorted([first, second]) if second in is_open else [first]
+
+
+class Play:
+    """A session that was answered from the start on, told from the words of [21] and [22]."""
+
+    def __init__(self, choose, ranges, prices, answers=()):
+        self.choose = choose
+        self.ranges = dict(ranges)
+        self.prices = prices
+        self.left = dict(prices)
+        self.asked = []
+        self.payments = []
+        self.forced = 0
+        self.ask_next()
+        for value in answers:
+            self.answer(value)
+
+    def ask_next(self):
+        names = self.choose(self.ranges)
+        self.is_forced = len(names) == 1
+        self.next_ask = names[0] if names else None
+        if len(names) == 2:
+            amount = min(self.left[name] for name in names)
+            for name in names:
+                self.left[name] -= amount
+            self.payments += [(*names, amount)] if amount else []
+            self.next_ask = min(name for name in names if self.left[name] == 0)
+
+    def answer(self, value):
+        self.forced += self.left[self.next_ask] if self.is_forced else 0
+        self.asked.append(self.next_ask)
+        self.ranges[self.next_ask] = (value, value)
+        self.ask_next()
+
+    def told(self):
+        """All properties but the pool."""
+        return (self.next_ask, self.next_ask is None, self.asked, sum(self.prices[name] for name in self.asked),
+                self.payments, sum(amount for _, _, amount in self.payments) + self.forced)

@@ -5,6 +5,7 @@ from random import Random
 
 from askranges.itemtypes import Item
 from askranges.pools import Pool
+from askranges.sessions import Session
 
 
 def nested(depth):
@@ -94,9 +95,64 @@ def draw_values(random, pool):
     return values
 
 
+def drawn_values(seed, count, most_items, **more):
+    """So many drawn pools with values for them."""
+    for random, pool in drawn_pools(seed, count, most_items, **more):
+        yield pool, draw_values(random, pool)
+
+
+def wide_items(count):
+    """Items that nearly all overlap, one half with low values and the other half with high ones."""
+    items = []
+    for at in range(count):
+        name = "abcdefgh"[at * 3 % 8] * (at // 8 + 1)
+        price = at * 37 % 50 + 1
+        if at % 2 == 0:
+            items.append(Item(name, -100 - at * 7 % 40, 60 + at * 11 % 40, price=price))
+        else:
+            items.append(Item(name, -60 - at * 13 % 40, 100 + at * 9 % 40, price=price))
+    return items
+
+
+def wrong_values(pool, values):
+    """Objects that are not values for a pool, made from no dict, other names and impossible values."""
+    things = [thing for thing in NOT_NAMES + NAMES if not isinstance(thing, dict)]
+    things += [list(values), tuple(values), list(values.items())]
+    # A pool without open items has the values {}.
+    things += [thing for thing in NOT_STRINGS if isinstance(thing, dict) and sorted(map(str, thing)) != sorted(values)]
+    for name in list(values)[:6]:
+        things.append({other: values[other] for other in values if other != name})
+        things.append({0 if other == name else other: values[other] for other in values})
+        least, greatest = pool.item(name).least, pool.item(name).greatest
+        for value in (None, True, False, str(values[name]), [values[name]], (), {}, 10 ** 39, least - 1, greatest + 1):
+            things.append({**values, name: value})
+    for key in ["A", "", "zzzzzzzq", 0, True, 10 ** 39] + [name for name in pool.names if name not in values]:
+        things.append({**values, key: 3})
+        things.append({key: 3, **values})
+    return things
+
+
+def refuse(test, kind, ask, *args):
+    """Raise this error and no other one, and leave the arguments as they are."""
+    with test.subTest(ask=getattr(ask, "__name__", ""), args=repr(args)[:200]):
+        with Unchanged(test, *args):
+            with test.assertRaises(kind) as caught:
+                ask(*args)
+            test.assertIs(caught.exception.__class__, kind)
+    return caught.exception
+
+
+def state(session):
+    """All that a session tells of itself."""
+    return (content(session.pool), session.next_ask, session.is_done, session.asked, session.spent, session.payments,
+            session.bound)
+
+
 def snapshot(thing):
-    """What Unchanged compares: a copy, or all that a pool tells of itself."""
-    return content(thing) if isinstance(thing, Pool) else deepcopy(thing)
+    """What Unchanged compares: a copy, or all that a pool or a session tells of itself."""
+    if isinstance(thing, Pool):
+        return content(thing)
+    return state(thing) if isinstance(thing, Session) else deepcopy(thing)
 
 
 class Unchanged:
