@@ -129,6 +129,7 @@ class OrderSession(Session):
         return self._give_state(OrderSession(self.pool))
 
     def _choose(self, pool):
+        """Return the smallest name of an open item with one inside, or else those of the first loose pair."""
         exact = [item for item in pool.walk() if item.is_exact]
         for name in pool.names:
             if any([pool.item(name).is_loose_with(other) for other in exact]):
@@ -151,6 +152,7 @@ class LeastSession(Session):
         return self._give_state(LeastSession(self.pool))
 
     def _choose(self, pool):
+        """Return the names of the two items with the least possible values, or that of the one that must be asked."""
         if len(pool) == 0 or sure_least(pool) is not None:
             return []
         first, second = list(pool.walk())[:2]

@@ -200,6 +200,41 @@ def least_choice(ranges):
     return sorted([first, second]) if second in is_open else [first]
 
 
+def smallest_of(ranges, values, count):
+    """The names of the count smallest items, by [27]."""
+    truth = truth_of(ranges, values)
+    return sorted(sorted(truth, key=lambda name: (truth[name], name))[:count])
+
+
+def knows_some_split(ranges, count):
+    """True if some split with so many low items is known."""
+    return any(knows_split(ranges, lows) for lows in combinations(ranges, count))
+
+
+def low_ones(ranges, count):
+    """F of [28], in ascending order, and the items behind it."""
+    is_open = open_of(ranges)
+    names = sorted(ranges, key=lambda name: (ranges[name][0], name not in is_open, name))
+    return names[:count], names[count:]
+
+
+def smallest_choice(count):
+    """What a smallest session asks, by [28]."""
+    def choose(ranges):
+        lows, others = low_ones(ranges, count)
+        if not lows or not others:
+            return []
+        is_open = open_of(ranges)
+        top = max(ranges[name][1] for name in lows)
+        at_top = sorted(name for name in lows if ranges[name][1] == top)
+        highest = ([name for name in at_top if name in is_open] or at_top)[0]
+        both = [highest, others[0]]
+        if is_before(ranges, *both) or not any(name in is_open for name in both):
+            return []
+        return sorted(name for name in both if name in is_open)
+    return choose
+
+
 class Play:
     """A session that was answered from the start on, told from the words of [21] and [22]."""
 

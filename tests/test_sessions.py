@@ -117,7 +117,8 @@ class ByHand(unittest.TestCase):
         session.answer(8)
         self.assertEqual([session.next_ask, session.payments, session.bound, session.spent], ["d", [], 7, 7])
         session.answer(8)
-        self.assertEqual([session.is_done, session.bound, session.spent, session.asked], [True, 12, 12, ["b", "c", "d"]])
+        self.assertEqual([session.is_done, session.bound, session.spent], [True, 12, 12])
+        self.assertEqual(session.asked, ["b", "c", "d"])
         self.assertEqual(session.result(), ["a", "c", "d", "b", "e"])
 
     def test_order_session_that_is_forced_behind_a_payment(self):
@@ -366,7 +367,8 @@ class UndoAndCopy(SessionTest):
             for _ in range(40):
                 if not session.is_done and random.random() < 0.6:
                     item = session.pool.item(session.next_ask)
-                    answers.append(random.choice([item.least, item.greatest, random.randint(item.least, item.greatest)]))
+                    between = random.randint(item.least, item.greatest)
+                    answers.append(random.choice([item.least, item.greatest, between]))
                     session.answer(answers[-1])
                 elif answers:
                     session.undo()
@@ -376,7 +378,8 @@ class UndoAndCopy(SessionTest):
 
     def test_a_copy_is_independent(self):
         for kind in KINDS:
-            for pool, values in list(drawn_values(5, 40, 9)) + [(Pool(*nested_items(12)), dict.fromkeys("abcdefghijkl", 50))]:
+            inside = (Pool(*nested_items(12)), dict.fromkeys("abcdefghijkl", 50))
+            for pool, values in list(drawn_values(5, 40, 9)) + [inside]:
                 session = kind(pool)
                 while not session.is_done:
                     copied, before = session.copy(), state(session)
