@@ -11,7 +11,7 @@ from askranges.itemtypes import Item
 from askranges.pools import Pool
 from tests import model
 from tests.things import (NAMES, NOT_INTEGERS, NOT_NAMES, Unchanged, draw_values, drawn_values, forty_items, refuse,
-                          row_items, same, small_items, wrong_values)
+                          row_items, same, small_pools, wrong_values)
 
 POOL = Pool(Item("a", 0, 5), Item("b", 2, 9, price=4), Item("c", 7, 12))
 VALUES = {"a": 1, "b": 6, "c": 10}
@@ -48,15 +48,6 @@ def is_certificate(pool, values, thing):
 
 def total_of(pool, values, thing):
     return needed_price(pool, values) + sum(amount for _, _, amount in thing)
-
-
-def small_pools(step):
-    """Some pools of three small items with different prices and all values for each."""
-    drawn = list(product(small_items("c", 3, 3), small_items("a", 2, 2), small_items("b", 3, 4)))
-    for items in drawn[::step]:
-        ranges = model.ranges_of(Pool(*items))
-        for values in model.all_values(ranges, model.open_of(ranges)):
-            yield Pool(*items), values
 
 
 class Example(unittest.TestCase):

@@ -10,19 +10,10 @@ from askranges.minimum import candidates, cheapest_least, sure_least
 from askranges.pools import Pool
 from tests import model
 from tests.things import (NAMES, Unchanged, draw_values, drawn_values, forty_items, refuse, row_items, same,
-                          small_items, wide_items, wrong_values)
+                          small_items, small_pools, wide_items, wrong_values)
 
 POOL = Pool(Item("a", 0, 5, price=3), Item("b", 2, 9), Item("c", 7, 12))
 VALUES = {"a": 1, "b": 7, "c": 10}
-
-
-def small_pools(step=1):
-    """Some pools of three small items with different prices and all values for each."""
-    drawn = list(product(small_items("c", 3, 3), small_items("a", 2, 2), small_items("b", 3, 4)))
-    for items in drawn[::step]:
-        ranges = model.ranges_of(Pool(*items))
-        for values in model.all_values(ranges, model.open_of(ranges)):
-            yield Pool(*items), values
 
 
 class Example(unittest.TestCase):

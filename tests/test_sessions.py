@@ -12,7 +12,7 @@ from askranges.sessions import LeastSession, OrderSession, Session
 from askranges.sorting import sure_order
 from tests import model
 from tests.things import (NAMES, NOT_INTEGERS, Unchanged, content, draw_values, drawn_values, forty_items, refuse,
-                          row_items, same, small_items, state, wide_items)
+                          row_items, same, small_pools, state, wide_items)
 
 POOL = Pool(Item("a", 0, 5, price=3), Item("b", 2, 9, price=2), Item("c", 7, 12))
 CHOICES = {"OrderSession": model.order_choice, "LeastSession": model.least_choice, "Session": lambda ranges: []}
@@ -200,12 +200,9 @@ class Steps(SessionTest):
                     self.run_through(kind, pool, values)
 
     def test_all_pools_of_three_small_items(self):
-        drawn = list(product(small_items("c", 3, 3), small_items("a", 2, 2), small_items("b", 3, 4)))
-        for items in drawn[::7]:
-            ranges = model.ranges_of(Pool(*items))
-            for values in model.all_values(ranges, model.open_of(ranges)):
-                for kind in KINDS:
-                    self.run_through(kind, Pool(*items), values)
+        for pool, values in small_pools(7):
+            for kind in KINDS:
+                self.run_through(kind, pool, values)
 
     def test_drawn_pools(self):
         for kind in KINDS:
@@ -482,12 +479,9 @@ class Facts(SessionTest):
                 self.assertEqual(truth[session.result()], min(truth.values()))
 
     def test_all_truths_of_pools_of_three_small_items(self):
-        drawn = list(product(small_items("c", 3, 3), small_items("a", 2, 2), small_items("b", 3, 4)))
-        for items in drawn[::3]:
-            ranges = model.ranges_of(Pool(*items))
-            for values in model.all_values(ranges, model.open_of(ranges)):
-                for kind in KINDS:
-                    self.check_facts(kind, Pool(*items), values)
+        for pool, values in small_pools(3):
+            for kind in KINDS:
+                self.check_facts(kind, pool, values)
 
     def test_all_truths_of_drawn_pools(self):
         for pool, _ in drawn_values(6, 12, 5, most=6, widest=3):

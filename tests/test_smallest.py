@@ -13,19 +13,10 @@ from askranges.smallest import SmallestSession, cheapest_smallest, smallest
 from askranges.splitting import cheapest_split, is_known
 from tests import model
 from tests.things import (NOT_INTEGERS, Unchanged, content, draw_values, drawn_values, forty_items, refuse, row_items,
-                          same, small_items, state, wide_items, wrong_values)
+                          same, small_pools, state, wide_items, wrong_values)
 
 POOL = Pool(Item("a", 0, 5, price=3), Item("b", 2, 9, price=2), Item("c", 4, 12, price=9))
 VALUES = {"a": 1, "b": 7, "c": 5}
-
-
-def small_pools(step):
-    """Some pools of three small items with different prices and all values for each."""
-    drawn = list(product(small_items("c", 3, 3), small_items("a", 2, 2), small_items("b", 3, 4)))
-    for items in drawn[::step]:
-        ranges = model.ranges_of(Pool(*items))
-        for values in model.all_values(ranges, model.open_of(ranges)):
-            yield Pool(*items), values
 
 
 def large_pools():

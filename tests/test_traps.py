@@ -13,7 +13,7 @@ from askranges.smallest import SmallestSession
 from askranges.traps import price_of, trap
 from tests import model
 from tests.things import (NOT_INTEGERS, Unchanged, draw_values, drawn_values, forty_items, parts, refuse, row_items,
-                          same, small_items, state, wide_items, wrong_values)
+                          same, small_items, wide_items, wrong_values)
 
 POOL = Pool(Item("a", 0, 5, price=3), Item("b", 2, 9, price=2), Item("c", 7, 12))
 VALUES = {"a": 1, "b": 3, "c": 10}

@@ -1,11 +1,13 @@
 """What several tests need: objects of every kind, and all small items."""
 
 from copy import deepcopy
+from itertools import product
 from random import Random
 
 from askranges.itemtypes import Item
 from askranges.pools import Pool
 from askranges.sessions import Session
+from tests import model
 
 
 def nested(depth):
@@ -99,6 +101,15 @@ def drawn_values(seed, count, most_items, **more):
     """So many drawn pools with values for them."""
     for random, pool in drawn_pools(seed, count, most_items, **more):
         yield pool, draw_values(random, pool)
+
+
+def small_pools(step):
+    """Each so many-th pool of three small items with different prices, with all values for it."""
+    drawn = list(product(small_items("c", 3, 3), small_items("a", 2, 2), small_items("b", 3, 4)))
+    for items in drawn[::step]:
+        ranges = model.ranges_of(Pool(*items))
+        for values in model.all_values(ranges, model.open_of(ranges)):
+            yield Pool(*items), values
 
 
 def wide_items(count):
